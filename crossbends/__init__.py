@@ -1,0 +1,1 @@
+"""Crossbends: orders, crosses and bends, and a polynomial for each order."""

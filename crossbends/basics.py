@@ -1,0 +1,26 @@
+"""What several files need: whole numbers, counts of things, exchanges of neighbours."""
+
+from crossbends.errors import BadCount
+
+MOST_THINGS = 5
+
+
+def is_whole(thing):
+    """Whether this is a whole number; True and False are none."""
+    return isinstance(thing, int) and not isinstance(thing, bool)
+
+
+def is_within(thing, least, most):
+    """Whether this is a whole number from least to most."""
+    return is_whole(thing) and least <= thing <= most
+
+
+def check_count(many):
+    """Refuse what is no number of unknowns or of things."""
+    if not is_within(many, 1, MOST_THINGS):
+        raise BadCount("a count is a whole number from 1 to 5")
+
+
+def swapped(row, k):
+    """The tuple with its entries at k and k + 1 exchanged."""
+    return row[:k] + (row[k + 1], row[k]) + row[k + 2:]
