@@ -1,4 +1,4 @@
-"""What several files need: whole numbers, counts of things, exchanges of neighbours."""
+"""What several files need: whole numbers, counts of things, exchanges of neighbours, ways by single steps."""
 
 from crossbends.errors import BadCount
 
@@ -24,3 +24,28 @@ def check_count(many):
 def swapped(row, k):
     """The tuple with its entries at k and k + 1 exchanged."""
     return row[:k] + (row[k + 1], row[k]) + row[k + 2:]
+
+
+def ways_from(start, steps):
+    """For each list that steps lead to from the start, the one ahead of it on a shortest way; None for the start."""
+    came_from = {tuple(start): None}
+    reached = [start]
+    done = 0
+    while done < len(reached):
+        now = reached[done]
+        for following in steps(now):
+            if tuple(following) not in came_from:
+                came_from[tuple(following)] = now
+                reached.append(following)
+        done += 1
+    return came_from
+
+
+def way_back(came_from, goal):
+    """The lists from the goal back to the start, each of them new."""
+    way = []
+    now = goal
+    while now is not None:
+        way.append(list(now))
+        now = came_from[tuple(now)]
+    return way

@@ -1,6 +1,6 @@
 """Words: rows of exchanges of neighbours, and the moves between short ones."""
 
-from crossbends.basics import check_count, is_within, swapped
+from crossbends.basics import check_count, is_within, swapped, way_back, ways_from
 from crossbends.errors import BadWord, OtherOrder, Spare, TooMany
 from crossbends.orders import back, check_order, falls, wrong_pairs
 
@@ -98,29 +98,5 @@ def led(many, one, other):
             raise Spare(place)
     if word_order(many, one) != word_order(many, other):
         raise OtherOrder("the words make unlike orders")
-    return way_back(steps_towards(other, one), one)
-
-
-def steps_towards(goal, start):
-    """For words around the goal, the start among them, the next word on a shortest way to the goal."""
     # Moves lead through all short words of an order, and no order of five things has more than 768.
-    towards = {tuple(goal): None}
-    reached = [goal]
-    done = 0
-    while tuple(start) not in towards:
-        for word in moved(reached[done]):
-            if tuple(word) not in towards:
-                towards[tuple(word)] = reached[done]
-                reached.append(word)
-        done += 1
-    return towards
-
-
-def way_back(towards, start):
-    """The words from the start on, each as a list of its own, until there is no next one."""
-    way = []
-    word = start
-    while word is not None:
-        way.append(list(word))
-        word = towards[tuple(word)]
-    return way
+    return way_back(ways_from(other, moved), one)

@@ -5,6 +5,7 @@ import itertools
 
 FORTY = 10 ** 40 - 1
 FORTY_BELOW = 1 - 10 ** 40
+BIG = 1234567890123456789012345678901234567890
 
 NO_COUNTS = [0, 6, -1, -5, FORTY, FORTY_BELOW, True, False, None, "", "3", "abc", (), (3,), [], [3], [[None]]]
 
@@ -52,6 +53,99 @@ def all_short_words(order):
             shorter = order[:k] + (order[k + 1], order[k]) + order[k + 2:]
             found += [word + [k] for word in all_short_words(shorter)]
     return sorted(found)
+
+
+def small_words(many, most):
+    """All words of so many things with at most so many entries."""
+    for count in range(most + 1):
+        for word in itertools.product(range(many - 1), repeat=count):
+            yield list(word)
+
+
+def no_words(many):
+    """What is no word of so many things."""
+    entries = [many - 1, many, 5, -1, FORTY, FORTY_BELOW, True, False, None, "", "0", [0], (0,), [], (), nested(9, 0)]
+    wrong = [[entry] for entry in entries]
+    wrong += [(), (0,), (0, 1), "", "0", "01", None, True, False, 0, 1, FORTY, nested(10, 0), ((),), [None] * 400]
+    wrong += [[0] * 31, [0] * 32, [0] * 400, [0] * 30 + [None]]
+    if many > 1:
+        wrong += [[0, entry] for entry in entries] + [[0] * 29 + [entry] for entry in entries]
+    return wrong
+
+
+def naive(terms):
+    """Terms added up, greater powers first."""
+    sums = {}
+    for powers, number in terms:
+        sums[powers] = sums.get(powers, 0) + number
+    return sorted([(powers, number) for powers, number in sums.items() if number], reverse=True)
+
+
+def naive_product(one, other):
+    return naive([
+        (tuple(a + b for a, b in zip(powers, others)), number * factor)
+        for powers, number in one for others, factor in other
+    ])
+
+
+def naive_at(some, point):
+    total = 0
+    for powers, number in some:
+        for power, worth in zip(powers, point):
+            number *= worth ** power
+        total += number
+    return total
+
+
+def full(many, weight, number=1):
+    """A polynomial with all powers up to a weight, and numbers of both signs."""
+    terms = []
+    for powers in itertools.product(range(weight + 1), repeat=many):
+        if sum(powers) <= weight:
+            sign = -1 if len(terms) % 3 == 0 else 1
+            terms.append((powers, sign * (number + len(terms))))
+    return naive(terms)
+
+
+def some_polynomials(many):
+    """Some polynomials of so many unknowns, none of a weight above 10."""
+    ones = [tuple(int(place == at_place) for place in range(many)) for at_place in range(many)]
+    return [
+        [],
+        [((0,) * many, 1)],
+        [((0,) * many, -7)],
+        naive([(ones[0], 1), (ones[-1], -1), ((0,) * many, 3)]),
+        naive([(powers, BIG) for powers in ones] + [((2,) * many, -BIG)]),
+        naive([((10,) + (0,) * (many - 1), -1), ((0,) * (many - 1) + (10,), 2)]),
+        full(many, 3),
+        full(many, 2, -BIG),
+    ]
+
+
+def stair_cells(many):
+    """All cells that may be crosses, in rising order."""
+    return [(i, j) for i in range(many) for j in range(many) if i + j <= many - 2]
+
+
+def all_drawings(many):
+    """All drawings of so many things."""
+    cells = stair_cells(many)
+    return [list(drawing) for count in range(len(cells) + 1) for drawing in itertools.combinations(cells, count)]
+
+
+def drawn(many, drawing):
+    """The columns at which the lines end, and the two lines at each cross, found row by row from below."""
+    upward = {}
+    lines = {}
+    for i in range(many - 1, -1, -1):
+        rightward = i
+        for j in range(many - i):
+            if (i, j) in drawing:
+                lines[i, j] = {rightward, upward[j]}
+            else:
+                rightward, upward[j] = upward.get(j), rightward
+    column = {line: j for j, line in upward.items()}
+    return tuple(column[line] for line in range(many)), lines
 
 
 def all_lists(thing):

@@ -17,6 +17,19 @@ INTERFACE = {
         "word_order(many, word)", "spare(many, word)", "least_word(order)", "short_words(order)", "moves(many, word)",
         "led(many, one, other)",
     ],
+    "below": [
+        "ahead(order, place, height)", "above_at(one, other)", "kept_in(many, word, order)", "steps_up(order)",
+        "climb(one, other)",
+    ],
+    "differences": [
+        "differed(many, some, k)", "raised(many, some, k)", "differed_by(many, some, word)",
+        "raised_by(many, some, word)",
+    ],
+    "sums": ["order_sum(order)", "out_of_stair(many, some)", "by_orders(many, some)"],
+    "drawings": [
+        "ends(many, drawing)", "drawing_word(many, drawing)", "twice(many, drawing)", "lowest(order)",
+        "ladders(many, drawing)", "drawings(order)", "climbed(many, drawing)", "terms_of(many, drawing)",
+    ],
 }
 
 

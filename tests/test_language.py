@@ -118,6 +118,14 @@ class Statements(unittest.TestCase):
             for stem in free:
                 del above[stem]
 
+    def test_iterated_at_once(self):
+        for node, where in nodes((ast.Assign, ast.AugAssign, ast.Return)):
+            if isinstance(node.value, ast.Call):
+                called = node.value.func
+                name = called.attr if isinstance(called, ast.Attribute) else called.id
+                self.assertNotIn(name, ("zip", "enumerate", "reversed", "range", "items", "keys", "values"), where)
+            self.assertNotIsInstance(node.value, ast.GeneratorExp, where)
+
     def test_errors_are_created_where_raised(self):
         for node, where in nodes(ast.Raise):
             if node.exc is not None:

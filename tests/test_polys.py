@@ -4,59 +4,8 @@ import unittest
 
 from crossbends.errors import BadCount, BadPowers, TooGreat
 from crossbends.polys import at, exchanged, less, made, plus, times
-from tests.helper import FORTY, FORTY_BELOW, NO_COUNTS, check_own, check_refused, nested
-
-BIG = 1234567890123456789012345678901234567890
-
-
-def naive(terms):
-    """Terms added up, greater powers first."""
-    sums = {}
-    for powers, number in terms:
-        sums[powers] = sums.get(powers, 0) + number
-    return sorted([(powers, number) for powers, number in sums.items() if number], reverse=True)
-
-
-def naive_product(one, other):
-    return naive([
-        (tuple(a + b for a, b in zip(powers, others)), number * factor)
-        for powers, number in one for others, factor in other
-    ])
-
-
-def naive_at(some, point):
-    total = 0
-    for powers, number in some:
-        for power, worth in zip(powers, point):
-            number *= worth ** power
-        total += number
-    return total
-
-
-def full(many, weight, number=1):
-    """A polynomial with all powers up to a weight, and numbers of both signs."""
-    terms = []
-    for powers in itertools.product(range(weight + 1), repeat=many):
-        if sum(powers) <= weight:
-            sign = -1 if len(terms) % 3 == 0 else 1
-            terms.append((powers, sign * (number + len(terms))))
-    return naive(terms)
-
-
-def some_polynomials(many):
-    """Some polynomials of so many unknowns, none of a weight above 10."""
-    ones = [tuple(int(place == at_place) for place in range(many)) for at_place in range(many)]
-    return [
-        [],
-        [((0,) * many, 1)],
-        [((0,) * many, -7)],
-        naive([(ones[0], 1), (ones[-1], -1), ((0,) * many, 3)]),
-        naive([(powers, BIG) for powers in ones] + [((2,) * many, -BIG)]),
-        naive([((10,) + (0,) * (many - 1), -1), ((0,) * (many - 1) + (10,), 2)]),
-        full(many, 3),
-        full(many, 2, -BIG),
-    ]
-
+from tests.helper import (FORTY, FORTY_BELOW, NO_COUNTS, check_own, check_refused, full, naive, naive_at,
+                          naive_product, nested, some_polynomials)
 
 class Made(unittest.TestCase):
 

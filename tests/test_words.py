@@ -3,18 +3,11 @@ import unittest
 
 from crossbends.errors import BadCount, BadOrder, BadWord, OtherOrder, Spare, TooMany
 from crossbends.words import least_word, led, moves, short_words, spare, word_order
-from tests.helper import (FORTY, FORTY_BELOW, NO_COUNTS, NO_ORDERS, all_orders, all_short_words, by_hand, check_own,
-                          check_refused, nested, pairs_wrong)
+from tests.helper import (NO_COUNTS, NO_ORDERS, all_orders, all_short_words, by_hand, check_own, check_refused, nested,
+                          no_words, pairs_wrong, small_words)
 
 TURNED = (4, 3, 2, 1, 0)
 OF_A_WORD = (word_order, spare, moves)
-
-
-def small_words(many, most):
-    """All words of so many things with at most so many entries."""
-    for count in range(most + 1):
-        for word in itertools.product(range(many - 1), repeat=count):
-            yield list(word)
 
 
 def long_words():
@@ -28,17 +21,6 @@ def long_words():
                 word.append((number >> 16) % (many - 1))
             for count in (10, 11, 15, 29, 30):
                 yield many, word[:count]
-
-
-def no_words(many):
-    """What is no word of so many things."""
-    entries = [many - 1, many, 5, -1, FORTY, FORTY_BELOW, True, False, None, "", "0", [0], (0,), [], (), nested(9, 0)]
-    wrong = [[entry] for entry in entries]
-    wrong += [(), (0,), (0, 1), "", "0", "01", None, True, False, 0, 1, FORTY, nested(10, 0), ((),), [None] * 400]
-    wrong += [[0] * 31, [0] * 32, [0] * 400, [0] * 30 + [None]]
-    if many > 1:
-        wrong += [[0, entry] for entry in entries] + [[0] * 29 + [entry] for entry in entries]
-    return wrong
 
 
 def moved_by_hand(word):
