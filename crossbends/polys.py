@@ -139,7 +139,7 @@ def at(some, point):
 
 def without_last(rest, worth):
     """The numbers by powers with the last unknown replaced by what it is worth."""
-    table = worth_powers(worth)
+    table = worth_powers(worth, max([powers[-1] for powers in rest], default=0))
     sums = {}
     for powers, number in rest.items():
         ahead = powers[:-1]
@@ -147,9 +147,10 @@ def without_last(rest, worth):
     return sums
 
 
-def worth_powers(worth):
-    """The powers of a number, from the one of 0 on."""
+def worth_powers(worth, most):
+    """The powers of a number, from the one of 0 to the one of most."""
+    # No power is made that isn't needed: a number that was told may have very many figures.
     table = [1]
-    while len(table) <= MOST_WEIGHT:
+    while len(table) <= most:
         table.append(table[-1] * worth)
     return table

@@ -13,12 +13,16 @@ def stair_of(many):
     return tuple(reversed(range(many)))
 
 
+def brought_down(stair, order):
+    """The polynomial that differences make of the stair's one for the order."""
+    many = len(order)
+    return differed_by(many, stair, least_word(joined(back(order), stair_of(many))))
+
+
 def order_sum(order):
     """The polynomial of an order."""
     check_order(order)
-    many = len(order)
-    word = least_word(joined(back(order), stair_of(many)))
-    return differed_by(many, [(stair_of(many), 1)], word)
+    return brought_down([(stair_of(len(order)), 1)], order)
 
 
 def out_of_stair(many, some):
@@ -31,11 +35,16 @@ def out_of_stair(many, some):
     return None
 
 
-def by_orders(many, some):
-    """The rising list of tuples (order, number) whose order_sums, so often, add up to the polynomial."""
+def check_beneath(many, some):
+    """Refuse a polynomial that is not beneath the stair."""
     out = out_of_stair(many, some)
     if out is not None:
         raise OutOfStair(out)
+
+
+def by_orders(many, some):
+    """The rising list of tuples (order, number) whose order_sums, so often, add up to the polynomial."""
+    check_beneath(many, some)
     # The least powers of what is left are the code of one order alone among those that are due, and it
     # is due as often as their number says. They rise from step to step, and with its code so does the order.
     found = []

@@ -8,12 +8,17 @@ MOST_ENTRIES = 30
 MOST_SHORT_WORDS = 300
 
 
+def is_word(many, thing):
+    """Whether this is a word of so many things."""
+    if not isinstance(thing, list) or len(thing) > MOST_ENTRIES:
+        return False
+    return all(is_within(k, 0, many - 2) for k in thing)
+
+
 def check_word(many, word):
     """Refuse what is no word of so many things."""
-    if not isinstance(word, list) or len(word) > MOST_ENTRIES:
-        raise BadWord("a word is a list of at most 30 entries")
-    if not all(is_within(k, 0, many - 2) for k in word):
-        raise BadWord("an entry of a word is a whole number from 0 to the count of things less 2")
+    if not is_word(many, word):
+        raise BadWord("a word is a list of at most 30 numbers from 0 to the count of things less 2")
 
 
 def word_order(many, word):

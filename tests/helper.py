@@ -30,6 +30,11 @@ def all_orders(least=1, most=5):
     return [order for many in range(least, most + 1) for order in itertools.permutations(range(many))]
 
 
+def swapped_by_hand(row, k):
+    """The tuple with the entries at k and k + 1 exchanged."""
+    return row[:k] + (row[k + 1], row[k]) + row[k + 2:]
+
+
 def by_hand(many, word):
     """The order of a word, found by exchanges in a list."""
     row = list(range(many))
@@ -50,8 +55,7 @@ def all_short_words(order):
     found = []
     for k in range(len(order) - 1):
         if order[k] > order[k + 1]:
-            shorter = order[:k] + (order[k + 1], order[k]) + order[k + 2:]
-            found += [word + [k] for word in all_short_words(shorter)]
+            found += [word + [k] for word in all_short_words(swapped_by_hand(order, k))]
     return sorted(found)
 
 
@@ -122,6 +126,38 @@ def some_polynomials(many):
     ]
 
 
+def unknown(many, k):
+    """The powers of x(k)."""
+    return tuple(int(place == k) for place in range(many))
+
+
+def differed_by_hand(some, k):
+    """Each term by itself: x^a y^b with a above b is x^(a-1) y^b + .. + x^b y^(a-1)."""
+    terms = []
+    for powers, number in some:
+        low, high = sorted(powers[k:k + 2])
+        for power in range(low, high):
+            sign = 1 if powers[k] > powers[k + 1] else -1
+            terms.append((powers[:k] + (power, low + high - 1 - power) + powers[k + 2:], sign * number))
+    return naive(terms)
+
+
+def raised_by_hand(some, k):
+    many = len(some[0][0]) if some else 1
+    return differed_by_hand(naive_product(some, [(unknown(many, k), 1)]), k)
+
+
+def along_by_hand(step, some, word):
+    for k in word[::-1]:
+        some = step(some, k)
+    return some
+
+
+def beneath(many):
+    """All powers beneath the stair."""
+    return list(itertools.product(*(range(many - place) for place in range(many))))
+
+
 def stair_cells(many):
     """All cells that may be crosses, in rising order."""
     return [(i, j) for i in range(many) for j in range(many) if i + j <= many - 2]
@@ -146,6 +182,24 @@ def drawn(many, drawing):
                 rightward, upward[j] = upward.get(j), rightward
     column = {line: j for j, line in upward.items()}
     return tuple(column[line] for line in range(many)), lines
+
+
+def sums_by_drawings(many, shifts):
+    """The polynomial of each order with these shifts, from all drawings in which no two lines cross twice."""
+    terms = {}
+    for drawing in all_drawings(many):
+        order = drawn(many, drawing)[0]
+        if pairs_wrong(order) == len(drawing):
+            product = [((0,) * many, 1)]
+            for i, j in drawing:
+                product = naive_product(product, [(unknown(many, i), 1), ((0,) * many, -shifts[j])])
+            terms[order] = terms.get(order, []) + product
+    return {order: naive(terms[order]) for order in terms}
+
+
+def added_up(pairs, told):
+    """The polynomials that are told of the orders of tuples (order, number), so often, added up."""
+    return naive([(powers, number * often) for order, often in pairs for powers, number in told(order)])
 
 
 def all_lists(thing):

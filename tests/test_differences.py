@@ -5,40 +5,13 @@ import unittest
 from crossbends.differences import differed, differed_by, raised, raised_by
 from crossbends.errors import BadCount, BadPlace, BadWord, TooGreat
 from crossbends.polys import exchanged, less, times
-from tests.helper import (BIG, FORTY, FORTY_BELOW, NO_COUNTS, all_orders, all_short_words, by_hand, check_own,
-                          check_refused, full, naive, naive_product, nested, no_words, pairs_wrong, small_words,
-                          some_polynomials)
+from tests.helper import (BIG, FORTY, FORTY_BELOW, NO_COUNTS, all_orders, all_short_words, along_by_hand, by_hand,
+                          check_own, check_refused, differed_by_hand, full, naive, naive_product, nested, no_words,
+                          pairs_wrong, raised_by_hand, small_words, some_polynomials, unknown)
 
 TURNED = (4, 3, 2, 1, 0)
 OF_ONE_PLACE = (differed, raised)
 OF_A_WORD = (differed_by, raised_by)
-
-
-def unknown(many, k):
-    """The powers of x(k)."""
-    return tuple(int(place == k) for place in range(many))
-
-
-def differed_by_hand(some, k):
-    """Each term by itself: x^a y^b with a above b is x^(a-1) y^b + .. + x^b y^(a-1)."""
-    terms = []
-    for powers, number in some:
-        low, high = sorted(powers[k:k + 2])
-        for power in range(low, high):
-            sign = 1 if powers[k] > powers[k + 1] else -1
-            terms.append((powers[:k] + (power, low + high - 1 - power) + powers[k + 2:], sign * number))
-    return naive(terms)
-
-
-def raised_by_hand(some, k):
-    many = len(some[0][0]) if some else 1
-    return differed_by_hand(naive_product(some, [(unknown(many, k), 1)]), k)
-
-
-def along_by_hand(step, some, word):
-    for k in word[::-1]:
-        some = step(some, k)
-    return some
 
 
 def four_hundred(many, weight):

@@ -42,7 +42,8 @@ def no_drawings(many):
     if many > 1:
         wrong += [(i, many - 1 - i) for i in range(many)]
     found = [[thing] for thing in wrong] + [[None] * 400, [()] * 400]
-    found += [(), (0, 0), ((0, 0),), "", "00", "-", None, True, False, 0, 1, FORTY, nested(10, 0), tuple(cells) or ((),)]
+    found += [(), (0, 0), ((0, 0),), "", "00", "-", None, True, False, 0, 1, FORTY, nested(10, 0)]
+    found.append(tuple(cells) or ((),))
     for cell in cells:
         found += [[cell, cell], [list(cell)], tuple([cell]), [cell + (0,)], [cell[:1]], [cell, None], [cell] * 400]
         found += [[cell, thing] for thing in wrong]

@@ -4,6 +4,8 @@ import importlib
 import inspect
 import unittest
 
+from crossbends.desk import Desk
+
 INTERFACE = {
     "polys": [
         "made(many, terms)", "plus(one, other)", "less(one, other)", "times(one, other)", "exchanged(some, k)",
@@ -30,6 +32,12 @@ INTERFACE = {
         "ends(many, drawing)", "drawing_word(many, drawing)", "twice(many, drawing)", "lowest(order)",
         "ladders(many, drawing)", "drawings(order)", "climbed(many, drawing)", "terms_of(many, drawing)",
     ],
+    "products": ["product_sums(one, other)", "by_exchange(order, k)", "key_sum(many, powers)", "one_fall(order)"],
+    "texts": [
+        "order_text(order)", "read_order(text)", "word_text(many, word)", "read_word(many, text)",
+        "drawing_text(many, drawing)", "read_drawing(many, text)", "sum_text(some)",
+    ],
+    "shifts": ["shifted_sum(order, shifts)", "shifted_worth(order, shifts, other)", "by_shifts(many, some, shifts)"],
 }
 
 
@@ -43,6 +51,11 @@ class Interface(unittest.TestCase):
                     function = getattr(module, told.partition("(")[0])
                     self.assertEqual(told, function.__name__ + str(inspect.signature(function)))
                     self.assertEqual(module.__name__, function.__module__)
+
+    def test_the_desk(self):
+        self.assertEqual("crossbends.desk", Desk.__module__)
+        self.assertEqual("()", str(inspect.signature(Desk)))
+        self.assertEqual("(self, line)", str(inspect.signature(vars(Desk)["tell"])))
 
 
 if __name__ == "__main__":

@@ -12,7 +12,8 @@ BUILTINS = set("""len range enumerate zip min max sum abs sorted reversed int st
     ZeroDivisionError ArithmeticError OverflowError RuntimeError NotImplementedError""".split())
 METHODS = set("""append clear copy count endswith extend find get index insert isalnum isalpha isdigit islower isspace
     isupper items join keys ljust lower lstrip partition pop remove replace reverse rfind rjust rpartition rsplit
-    rstrip setdefault split splitlines startswith strip update upper values zfill bit_length sort add discard""".split())
+    rstrip setdefault split splitlines startswith strip update upper values zfill bit_length sort add
+    discard""".split())
 BARRED_WORDS = """type typing typing_extensions enum Enum IntEnum StrEnum Flag IntFlag Generic Protocol ABC ABCMeta
     namedtuple NamedTuple TypedDict TYPE_CHECKING abstractmethod""".split()
 BARRED_NAMES = """register mro elements open input version_info with_traceback add_note attrgetter breakpoint
@@ -47,9 +48,20 @@ def bound_names(tree):
             found.add(node.name)
         elif isinstance(node, ast.alias):
             found.add(node.asname or node.name)
-        elif isinstance(node, ast.ExceptHandler) and node.name:
+        elif isinstance(node, (ast.ExceptHandler, ast.MatchAs, ast.MatchStar)) and node.name:
             found.add(node.name)
     return found
+
+
+def own_methods():
+    """The names of all methods that the package's classes define."""
+    inner = [node for owner, where in nodes(ast.ClassDef) for node in owner.body]
+    return {node.name for node in inner if isinstance(node, ast.FunctionDef)}
+
+
+def own_attributes():
+    """The names of all attributes that the package assigns."""
+    return {node.attr for node, where in nodes(ast.Attribute) if isinstance(node.ctx, ast.Store)}
 
 
 class Files(unittest.TestCase):
@@ -87,16 +99,65 @@ class Statements(unittest.TestCase):
 
     def test_module_level(self):
         for file in files():
+            above = set()
             for number, node in enumerate(ast.parse(file.read_text()).body):
                 where = f"{file.name}:{node.lineno}"
+                if isinstance(node, ast.FunctionDef):
+                    above.add(node.name)
                 if isinstance(node, ast.Assign):
-                    inner = list(ast.walk(node.value))
-                    self.assertTrue(all(isinstance(entry, PLAIN_NODES) for entry in inner), where)
+                    for entry in ast.walk(node.value):
+                        known = entry.id in above if isinstance(entry, ast.Name) else isinstance(entry, PLAIN_NODES)
+                        self.assertTrue(known, where)
+                    self.check_flat(node.value, where)
                 elif isinstance(node, ast.Expr):
                     self.assertEqual(0, number, where)
                     self.assertIsInstance(node.value.value, str, where)
                 else:
                     self.assertIsInstance(node, (ast.ImportFrom, ast.FunctionDef, ast.ClassDef), where)
+
+    def check_flat(self, value, where):
+        """A list or dict at module level contains no list or dict."""
+        for entry in ast.walk(value):
+            self.assertFalse(entry is not value and isinstance(entry, (ast.List, ast.Dict)), where)
+
+    def test_tables_are_only_read(self):
+        for file in files():
+            tree = ast.parse(file.read_text())
+            tables = [node.targets[0].id for node in tree.body
+                      if isinstance(node, ast.Assign) and isinstance(node.value, (ast.List, ast.Dict))]
+            for node in ast.walk(tree):
+                if isinstance(node, ast.Call):
+                    handed = node.args + [getattr(node.func, "value", None)]
+                    names = [entry.id for entry in handed if isinstance(entry, ast.Name)]
+                    self.assertFalse(set(names) & set(tables), f"{file.name}:{node.lineno}")
+                    self.assertNotIsInstance(node.func, ast.Subscript, f"{file.name}:{node.lineno}")
+                if isinstance(node, ast.Subscript) and not isinstance(node.ctx, ast.Load):
+                    self.assertNotIn(getattr(node.value, "id", ""), tables, f"{file.name}:{node.lineno}")
+
+    def test_cases(self):
+        plain = (ast.MatchValue, ast.MatchSingleton, ast.MatchSequence, ast.MatchStar, ast.MatchAs, ast.MatchOr)
+        for function, where in nodes(ast.FunctionDef):
+            for node in ast.walk(function):
+                if isinstance(node, ast.Match):
+                    captured = set()
+                    for place, case in enumerate(node.cases):
+                        whole = isinstance(case.pattern, ast.MatchAs) and case.pattern.pattern is None
+                        self.assertEqual(place == len(node.cases) - 1, whole, where)
+                        inner = [entry for entry in ast.walk(case.pattern) if isinstance(entry, ast.pattern)]
+                        self.assertTrue(all(isinstance(entry, plain) for entry in inner), where)
+                        names = [entry.name for entry in inner if getattr(entry, "name", None)]
+                        self.assertEqual(len(names), len(set(names)), where)
+                        loaded = {entry.id for entry in ast.walk(case) if isinstance(entry, ast.Name)}
+                        for name in captured - set(names):
+                            self.assertNotIn(name, loaded, where)
+                        captured |= set(names)
+                    self.assertFalse(captured & self.bound_by_others(function), where)
+
+    def bound_by_others(self, function):
+        """All names of a function that are bound by anything but patterns."""
+        found = {entry.arg for entry in ast.walk(function.args) if isinstance(entry, ast.arg)}
+        return found | {entry.id for entry in ast.walk(function)
+                        if isinstance(entry, ast.Name) and isinstance(entry.ctx, ast.Store)}
 
     def test_imports_from_the_very_file_and_never_around(self):
         above = {}
@@ -171,15 +232,23 @@ class Names(unittest.TestCase):
                 else:
                     heads += bound_names(node)
             self.assertEqual(len(heads), len(set(heads)), file.name)
-            for node in body:
+            for node in ast.walk(ast.parse(file.read_text())):
                 if isinstance(node, ast.FunctionDef):
                     inner = set().union(*(bound_names(entry) for entry in [node.args] + node.body))
                     self.assertFalse(inner & set(heads), f"{file.name}:{node.lineno}")
 
-    def test_methods_of_builtin_values(self):
+    def test_methods(self):
         for node, where in nodes(ast.Call):
             if isinstance(node.func, ast.Attribute):
-                self.assertIn(node.func.attr, METHODS, where)
+                self.assertIn(node.func.attr, METHODS | own_methods(), where)
+
+    def test_own_methods_and_attributes(self):
+        of_builtins = set().union(*(dir(kind) for kind in (int, str, bytes, list, tuple, dict, set)))
+        self.assertFalse((own_methods() | own_attributes()) & (of_builtins - {"__init__"}))
+        self.assertFalse(own_methods() & own_attributes())
+        for node, where in nodes(ast.Attribute):
+            if node.attr not in METHODS:
+                self.assertIn(node.attr, own_methods() | own_attributes(), where)
 
 
 if __name__ == "__main__":

@@ -1,12 +1,11 @@
-import itertools
 import unittest
 
 from crossbends.differences import differed
 from crossbends.errors import BadCount, BadOrder, OutOfStair
 from crossbends.polys import times
 from crossbends.sums import by_orders, order_sum, out_of_stair
-from tests.helper import (BIG, FORTY, FORTY_BELOW, NO_COUNTS, NO_ORDERS, all_drawings, all_orders, check_own,
-                          check_refused, drawn, full, naive, nested, pairs_wrong)
+from tests.helper import (BIG, FORTY, FORTY_BELOW, NO_COUNTS, NO_ORDERS, added_up, all_orders, beneath, check_own,
+                          check_refused, full, naive, nested, sums_by_drawings, swapped_by_hand)
 
 OF_A_POLYNOMIAL = (out_of_stair, by_orders)
 
@@ -15,29 +14,8 @@ def stair(many):
     return tuple(range(many - 1, -1, -1))
 
 
-def beneath(many):
-    """All powers beneath the stair."""
-    return list(itertools.product(*(range(many - place) for place in range(many))))
-
-
 def code_by_hand(order):
     return tuple(sum(b < a for b in order[i:]) for i, a in enumerate(order))
-
-
-def sums_by_drawings(many):
-    """The polynomial of each order, from all drawings in which no two lines cross twice."""
-    terms = {}
-    for drawing in all_drawings(many):
-        order = drawn(many, drawing)[0]
-        if pairs_wrong(order) == len(drawing):
-            powers = tuple(sum(i == row for i, j in drawing) for row in range(many))
-            terms.setdefault(order, []).append((powers, 1))
-    return {order: naive(terms[order]) for order in terms}
-
-
-def added_up(many, pairs):
-    """The order_sums of tuples (order, number), so often, added up."""
-    return naive([(powers, number * often) for order, often in pairs for powers, number in order_sum(order)])
 
 
 def some_sums(many):
@@ -62,7 +40,7 @@ class OrderSum(unittest.TestCase):
 
     def test_by_drawings(self):
         for many in range(1, 6):
-            expected = sums_by_drawings(many)
+            expected = sums_by_drawings(many, [0] * many)
             for order in all_orders(many, many):
                 self.assertEqual(expected[order], order_sum(order))
 
@@ -74,8 +52,7 @@ class OrderSum(unittest.TestCase):
     def test_differed(self):
         for order in all_orders():
             for k in range(len(order) - 1):
-                other = order[:k] + (order[k + 1], order[k]) + order[k + 2:]
-                expected = order_sum(other) if order[k] > order[k + 1] else []
+                expected = order_sum(swapped_by_hand(order, k)) if order[k] > order[k + 1] else []
                 self.assertEqual(expected, differed(len(order), order_sum(order), k))
 
     def test_least_powers_and_numbers(self):
@@ -172,7 +149,7 @@ class ByOrders(unittest.TestCase):
     def test_of_sums_of_them(self):
         for many in range(1, 6):
             for pairs in some_sums(many):
-                self.assertEqual(pairs, by_orders(many, added_up(many, pairs)))
+                self.assertEqual(pairs, by_orders(many, added_up(pairs, order_sum)))
 
     def test_of_all_terms_beneath_the_stair(self):
         for many in range(1, 6):
@@ -186,7 +163,7 @@ class ByOrders(unittest.TestCase):
         orders = [order for order, number in told]
         self.assertEqual(sorted(set(orders)), orders)
         self.assertTrue(all(type(number) is int and number != 0 for order, number in told))
-        self.assertEqual(some, added_up(many, told))
+        self.assertEqual(some, added_up(told, order_sum))
 
     def test_asker_s_own(self):
         check_own(self, by_orders, 3, [((2, 0, 0), 1), ((0, 1, 0), -4)])
