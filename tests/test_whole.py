@@ -3,6 +3,7 @@
 import copy
 import importlib
 import itertools
+import time
 import unittest
 
 from crossbends.desk import Desk
@@ -274,7 +275,18 @@ class HandedInAgain(unittest.TestCase):
         while greatest[0][1].bit_length() < 3000000:
             greatest = FUNCTIONS["times"](greatest, greatest)
         number = greatest[0][1]
+        begun = time.monotonic()
         self.assertEqual(number + 1, FUNCTIONS["at"]([((1,), 1), ((0,), 1)], [number]))
+        self.assertLess(time.monotonic() - begun, 10)
+
+    def test_the_text_of_a_number_of_a_hundred_thousand_figures(self):
+        greatest = [((0,), 10 ** 39)]
+        while greatest[0][1].bit_length() < 300000:
+            greatest = FUNCTIONS["times"](greatest, greatest)
+        begun = time.monotonic()
+        text = FUNCTIONS["sum_text"](greatest)
+        self.assertLess(time.monotonic() - begun, 10)
+        self.assertEqual("1" + "0" * (39 * 4096), text)
 
     def test_polynomials_of_very_many_terms(self):
         half = full(5, 10, FORTY)
